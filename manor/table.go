@@ -1,8 +1,11 @@
 package manor
 
-// The kinds of signs.
+import "sort"
+
+type kind int
+
 const (
-	kindNone = iota
+	kindNone kind = iota
 	kindLetter
 	kindDigit
 	kindHyphen
@@ -10,47 +13,80 @@ const (
 	kindConditional
 )
 
-// row is a run of signs that have the same kind.
+type script int
+
+const (
+	scriptNone script = iota
+	scriptLatin
+	scriptGreek
+	scriptHebrew
+	scriptArabic
+	scriptDevanagari
+	scriptHiragana
+	scriptKatakana
+	scriptHan
+)
+
+type joining int
+
+const (
+	joiningNone joining = iota
+	joiningR
+	joiningD
+	joiningT
+)
+
+// row is a run of signs that have everything in common.
 type row struct {
 	first, last int
-	kind        int
+	kind        kind
+	script      script
+	joining     joining
 }
 
-// table has the signs that may be in a label; all others are of no kind.
+// table has the signs that may be in a label, by size.
 var table = [...]row{
-	{'-', '-', kindHyphen},
-	{'0', '9', kindDigit},
-	{'a', 'z', kindLetter},
-	{0x00B7, 0x00B7, kindConditional},
-	{0x00DF, 0x00F6, kindLetter},
-	{0x00F8, 0x00FF, kindLetter},
-	{0x0300, 0x033F, kindMark},
-	{0x0342, 0x0342, kindMark},
-	{0x0345, 0x034E, kindMark},
-	{0x0350, 0x036F, kindMark},
-	{0x0375, 0x0375, kindConditional},
-	{0x03AC, 0x03CE, kindLetter},
-	{0x05D0, 0x05EA, kindLetter},
-	{0x05F3, 0x05F4, kindConditional},
-	{0x0627, 0x063A, kindLetter},
-	{0x0641, 0x064A, kindLetter},
-	{0x064B, 0x0652, kindMark},
-	{0x0660, 0x0669, kindConditional},
-	{0x06F0, 0x06F9, kindConditional},
-	{0x0905, 0x0939, kindLetter},
-	{0x094D, 0x094D, kindMark},
-	{0x200C, 0x200D, kindConditional},
-	{0x3041, 0x3096, kindLetter},
-	{0x30A1, 0x30FA, kindLetter},
-	{0x30FB, 0x30FB, kindConditional},
-	{0x4E00, 0x9FFF, kindLetter},
+	{'-', '-', kindHyphen, scriptNone, joiningNone},
+	{'0', '9', kindDigit, scriptNone, joiningNone},
+	{'a', 'z', kindLetter, scriptLatin, joiningNone},
+	{0x00B7, 0x00B7, kindConditional, scriptNone, joiningNone},
+	{0x00DF, 0x00F6, kindLetter, scriptLatin, joiningNone},
+	{0x00F8, 0x00FF, kindLetter, scriptLatin, joiningNone},
+	{0x0300, 0x033F, kindMark, scriptNone, joiningT},
+	{0x0342, 0x0342, kindMark, scriptNone, joiningT},
+	{0x0345, 0x034E, kindMark, scriptNone, joiningT},
+	{0x0350, 0x036F, kindMark, scriptNone, joiningT},
+	{0x0375, 0x0375, kindConditional, scriptGreek, joiningNone},
+	{0x03AC, 0x03CE, kindLetter, scriptGreek, joiningNone},
+	{0x05D0, 0x05EA, kindLetter, scriptHebrew, joiningNone},
+	{0x05F3, 0x05F4, kindConditional, scriptHebrew, joiningNone},
+	{0x0627, 0x0627, kindLetter, scriptArabic, joiningR},
+	{0x0628, 0x0628, kindLetter, scriptArabic, joiningD},
+	{0x0629, 0x0629, kindLetter, scriptArabic, joiningR},
+	{0x062A, 0x062E, kindLetter, scriptArabic, joiningD},
+	{0x062F, 0x0632, kindLetter, scriptArabic, joiningR},
+	{0x0633, 0x063A, kindLetter, scriptArabic, joiningD},
+	{0x0641, 0x0647, kindLetter, scriptArabic, joiningD},
+	{0x0648, 0x0648, kindLetter, scriptArabic, joiningR},
+	{0x0649, 0x064A, kindLetter, scriptArabic, joiningD},
+	{0x064B, 0x0652, kindMark, scriptNone, joiningT},
+	{0x0660, 0x0669, kindConditional, scriptNone, joiningNone},
+	{0x06F0, 0x06F9, kindConditional, scriptNone, joiningNone},
+	{0x0905, 0x0939, kindLetter, scriptDevanagari, joiningNone},
+	{0x094D, 0x094D, kindMark, scriptNone, joiningT},
+	{0x200C, 0x200D, kindConditional, scriptNone, joiningNone},
+	{0x3041, 0x3096, kindLetter, scriptHiragana, joiningNone},
+	{0x30A1, 0x30FA, kindLetter, scriptKatakana, joiningNone},
+	{0x30FB, 0x30FB, kindConditional, scriptNone, joiningNone},
+	{0x4E00, 0x9FFF, kindLetter, scriptHan, joiningNone},
 }
 
-func kindOf(sign int) int {
-	for _, r := range table {
-		if r.first <= sign && sign <= r.last {
-			return r.kind
-		}
+// rowOf is the row of a sign. That of all others, and of what is no sign, is
+// empty: of no kind, no script and no joining.
+func rowOf(sign int) row {
+	i := sort.Search(len(table), func(i int) bool { return sign <= table[i].last })
+	if i == len(table) || sign < table[i].first {
+		return row{}
 	}
-	return kindNone
+	return table[i]
 }

@@ -57,12 +57,3 @@ func split(form string) (plain, numbers string, ok bool) {
 	}
 	return form[:end], form[end+1:], end > 0
 }
-
-func isASCII(text string) bool {
-	for i := range len(text) {
-		if text[i] >= signs.FirstBeyondASCII {
-			return false
-		}
-	}
-	return true
-}

@@ -5,6 +5,7 @@ import (
 	"unicode/utf8"
 
 	"manor/api"
+	"manor/signs"
 )
 
 // maxBytes is how long a text may be that is handed in, for either way.
@@ -26,7 +27,7 @@ func Encode(text string) (string, api.Errno) {
 
 // Decode reads an ASCII form.
 func Decode(text string) (string, api.Errno) {
-	if len(text) > maxBytes || !isASCII(text) {
+	if len(text) > maxBytes || !signs.IsASCII(text) {
 		return "", api.ErrPuny
 	}
 	plain, numbers, ok := split(text)

@@ -24,6 +24,16 @@ func IsSign(number int) bool {
 	return number < firstSurrogate || number > lastSurrogate
 }
 
+// IsASCII tells whether all signs of a text are ASCII ones.
+func IsASCII(text string) bool {
+	for i := range len(text) {
+		if text[i] >= FirstBeyondASCII {
+			return false
+		}
+	}
+	return true
+}
+
 // Text is a text as a row of signs. It is made to be embedded in what works
 // on a text: its methods are theirs then.
 type Text struct {
@@ -44,6 +54,22 @@ func (t *Text) Count() int {
 // At is the sign at a place from 0 to Count() - 1.
 func (t *Text) At(place int) rune {
 	return t.row[place]
+}
+
+// Has tells whether a place, of whatever number, is one of the text.
+func (t *Text) Has(place int) bool {
+	return 0 <= place && place < len(t.row)
+}
+
+// Stands tells whether the sign is at the place. It may be asked of the
+// neighbours of any place: outside the text no sign stands.
+func (t *Text) Stands(place int, sign rune) bool {
+	return t.Has(place) && t.row[place] == sign
+}
+
+// Any tells whether there is a sign of which so much is true.
+func (t *Text) Any(is func(rune) bool) bool {
+	return slices.ContainsFunc(t.row, is)
 }
 
 // Insert puts a sign in ahead of a place from 0 to Count().

@@ -21,6 +21,16 @@ func TestIsSign(t *testing.T) {
 	}
 }
 
+func TestIsASCII(t *testing.T) {
+	for text, want := range map[string]bool{
+		"": true, "a": true, "\x00\x7f": true, "\u0080": false, "abcü": false, "üabc": false, "\x80": false, "\xff": false,
+	} {
+		if got := IsASCII(text); got != want {
+			t.Errorf("IsASCII(%q) = %v", text, got)
+		}
+	}
+}
+
 func TestTextSignBySign(t *testing.T) {
 	text := Of("aü😀")
 	if text.Count() != 3 || text.At(0) != 'a' || text.At(1) != 'ü' || text.At(2) != '😀' {
@@ -29,6 +39,33 @@ func TestTextSignBySign(t *testing.T) {
 	empty := Of("")
 	if empty.Count() != 0 || empty.String() != "" {
 		t.Errorf("signs of the empty text: %d, %q", empty.Count(), empty.String())
+	}
+}
+
+func TestNeighbours(t *testing.T) {
+	text := Of("aü")
+	for _, c := range []struct {
+		place int
+		sign  rune
+		has   bool
+	}{
+		{math.MinInt, 0, false}, {-1, 0, false}, {0, 'a', true}, {1, 'ü', true}, {2, 0, false}, {math.MaxInt, 0, false},
+	} {
+		if text.Has(c.place) != c.has || text.Stands(c.place, c.sign) != c.has || text.Stands(c.place, 'x') {
+			t.Errorf("at place %d: %v, %v", c.place, text.Has(c.place), text.Stands(c.place, c.sign))
+		}
+	}
+}
+
+func TestAny(t *testing.T) {
+	text := Of("aü")
+	for _, c := range []struct {
+		sign rune
+		want bool
+	}{{'a', true}, {'ü', true}, {'b', false}} {
+		if got := text.Any(func(sign rune) bool { return sign == c.sign }); got != c.want {
+			t.Errorf("any %q: %v", c.sign, got)
+		}
 	}
 }
 
