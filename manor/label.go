@@ -17,6 +17,24 @@ func newLabel(text string) *label {
 	return &label{Text: signs.Of(text)}
 }
 
+// goodLabel is what is looked through for a label, and its ASCII form, if it is
+// good.
+func goodLabel(text string) (*label, string, api.Errno) {
+	plain, errno := plainText(text)
+	if errno != api.OK {
+		return nil, "", errno
+	}
+	l := newLabel(plain)
+	if errno := l.fault(); errno != api.OK {
+		return nil, "", errno
+	}
+	form, errno := l.form()
+	if errno != api.OK {
+		return nil, "", errno
+	}
+	return l, form, api.OK
+}
+
 // fault is the first rule that the text breaks, but for its length.
 func (l *label) fault() api.Errno {
 	switch {
@@ -50,6 +68,10 @@ func (l *label) isKind(place int, kinds ...kind) bool {
 	return slices.Contains(kinds, l.rowAt(place).kind)
 }
 
+func (l *label) isSide(place int, sides ...side) bool {
+	return slices.Contains(sides, l.rowAt(place).side)
+}
+
 func (l *label) isScript(place int, scripts ...script) bool {
 	return slices.Contains(scripts, l.rowAt(place).script)
 }
@@ -59,17 +81,21 @@ func (l *label) isJoining(place int, joinings ...joining) bool {
 }
 
 func (l *label) hasKind(kinds ...kind) bool {
-	for place := range l.Count() {
-		if l.isKind(place, kinds...) {
-			return true
-		}
-	}
-	return false
+	return l.somewhere(func(place int) bool { return l.isKind(place, kinds...) })
+}
+
+func (l *label) hasSide(sides ...side) bool {
+	return l.somewhere(func(place int) bool { return l.isSide(place, sides...) })
 }
 
 func (l *label) hasScript(scripts ...script) bool {
+	return l.somewhere(func(place int) bool { return l.isScript(place, scripts...) })
+}
+
+// somewhere tells whether there is a place of which so much is true.
+func (l *label) somewhere(is func(place int) bool) bool {
 	for place := range l.Count() {
-		if l.isScript(place, scripts...) {
+		if is(place) {
 			return true
 		}
 	}

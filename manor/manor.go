@@ -1,22 +1,18 @@
 // Package manor: may this name be given away? See DOC.md.
 package manor
 
-import "manor/api"
+import (
+	"strings"
+
+	"manor/api"
+)
 
 // Kind tells a sign's kind (P3).
 func Kind(sign int) int { return int(rowOf(sign).kind) }
 
 // Label looks through a label (P4).
 func Label(text string) (string, string, api.Errno) {
-	plain, errno := plainText(text)
-	if errno != api.OK {
-		return "", "", errno
-	}
-	l := newLabel(plain)
-	if errno := l.fault(); errno != api.OK {
-		return "", "", errno
-	}
-	form, errno := l.form()
+	l, form, errno := goodLabel(text)
 	if errno != api.OK {
 		return "", "", errno
 	}
@@ -24,4 +20,15 @@ func Label(text string) (string, string, api.Errno) {
 }
 
 // Name looks through a name (P5).
-func Name(text string) (string, string, int, api.Errno) { return "", "", 0, api.OK }
+func Name(text string) (string, string, int, api.Errno) {
+	body, ended := strings.CutSuffix(text, dot)
+	n, number, errno := goodName(strings.Split(body, dot))
+	if errno != api.OK {
+		return "", "", number, errno
+	}
+	end := ""
+	if ended {
+		end = dot
+	}
+	return n.text() + end, n.form() + end, 0, api.OK
+}

@@ -9,13 +9,14 @@ import (
 	"manor/puny"
 )
 
-// What stands here is DOC.md's table and P4 once more, word for word and
+// What stands here is DOC.md's table, P4, P5 and P6 once more, word for word and
 // without regard to time, to hold the program against.
 
 type span struct{ first, last int }
 
 type entry struct {
 	kind    int
+	side    string
 	script  string
 	joining string
 }
@@ -29,28 +30,28 @@ func readTable() map[int]entry {
 		spans  []span
 		except []int
 	}{
-		{entry{3, "", ""}, []span{{0x2D, 0x2D}}, nil},
-		{entry{2, "", ""}, []span{{0x30, 0x39}}, nil},
-		{entry{1, "Latin", ""}, []span{{0x61, 0x7A}, {0xDF, 0xF6}, {0xF8, 0xFF}}, nil},
-		{entry{5, "", ""}, []span{{0xB7, 0xB7}}, nil},
-		{entry{4, "", "T"}, []span{{0x300, 0x36F}}, []int{0x340, 0x341, 0x343, 0x344, 0x34F}},
-		{entry{5, "Greek", ""}, []span{{0x375, 0x375}}, nil},
-		{entry{1, "Greek", ""}, []span{{0x3AC, 0x3CE}}, nil},
-		{entry{1, "Hebrew", ""}, []span{{0x5D0, 0x5EA}}, nil},
-		{entry{5, "Hebrew", ""}, []span{{0x5F3, 0x5F3}, {0x5F4, 0x5F4}}, nil},
-		{entry{1, "Arabic", "R"}, []span{{0x627, 0x627}, {0x62F, 0x632}, {0x648, 0x648}}, nil},
-		{entry{1, "Arabic", "D"}, []span{{0x628, 0x628}, {0x62A, 0x62E}, {0x633, 0x63A}, {0x641, 0x647}, {0x649, 0x649}, {0x64A, 0x64A}}, nil},
-		{entry{1, "Arabic", "R"}, []span{{0x629, 0x629}}, nil},
-		{entry{4, "", "T"}, []span{{0x64B, 0x652}}, nil},
-		{entry{5, "", ""}, []span{{0x660, 0x669}}, nil},
-		{entry{5, "", ""}, []span{{0x6F0, 0x6F9}}, nil},
-		{entry{1, "Devanagari", ""}, []span{{0x905, 0x939}}, nil},
-		{entry{4, "", "T"}, []span{{0x94D, 0x94D}}, nil},
-		{entry{5, "", ""}, []span{{0x200C, 0x200C}, {0x200D, 0x200D}}, nil},
-		{entry{1, "Hiragana", ""}, []span{{0x3041, 0x3096}}, nil},
-		{entry{1, "Katakana", ""}, []span{{0x30A1, 0x30FA}}, nil},
-		{entry{5, "", ""}, []span{{0x30FB, 0x30FB}}, nil},
-		{entry{1, "Han", ""}, []span{{0x4E00, 0x9FFF}}, nil},
+		{entry{3, "ES", "", ""}, []span{{0x2D, 0x2D}}, nil},
+		{entry{2, "EN", "", ""}, []span{{0x30, 0x39}}, nil},
+		{entry{1, "L", "Latin", ""}, []span{{0x61, 0x7A}, {0xDF, 0xF6}, {0xF8, 0xFF}}, nil},
+		{entry{5, "none", "", ""}, []span{{0xB7, 0xB7}}, nil},
+		{entry{4, "NSM", "", "T"}, []span{{0x300, 0x36F}}, []int{0x340, 0x341, 0x343, 0x344, 0x34F}},
+		{entry{5, "none", "Greek", ""}, []span{{0x375, 0x375}}, nil},
+		{entry{1, "L", "Greek", ""}, []span{{0x3AC, 0x3CE}}, nil},
+		{entry{1, "R", "Hebrew", ""}, []span{{0x5D0, 0x5EA}}, nil},
+		{entry{5, "R", "Hebrew", ""}, []span{{0x5F3, 0x5F3}, {0x5F4, 0x5F4}}, nil},
+		{entry{1, "AL", "Arabic", "R"}, []span{{0x627, 0x627}, {0x62F, 0x632}, {0x648, 0x648}}, nil},
+		{entry{1, "AL", "Arabic", "D"}, []span{{0x628, 0x628}, {0x62A, 0x62E}, {0x633, 0x63A}, {0x641, 0x647}, {0x649, 0x649}, {0x64A, 0x64A}}, nil},
+		{entry{1, "AL", "Arabic", "R"}, []span{{0x629, 0x629}}, nil},
+		{entry{4, "NSM", "", "T"}, []span{{0x64B, 0x652}}, nil},
+		{entry{5, "AN", "", ""}, []span{{0x660, 0x669}}, nil},
+		{entry{5, "EN", "", ""}, []span{{0x6F0, 0x6F9}}, nil},
+		{entry{1, "L", "Devanagari", ""}, []span{{0x905, 0x939}}, nil},
+		{entry{4, "NSM", "", "T"}, []span{{0x94D, 0x94D}}, nil},
+		{entry{5, "none", "", ""}, []span{{0x200C, 0x200C}, {0x200D, 0x200D}}, nil},
+		{entry{1, "L", "Hiragana", ""}, []span{{0x3041, 0x3096}}, nil},
+		{entry{1, "L", "Katakana", ""}, []span{{0x30A1, 0x30FA}}, nil},
+		{entry{5, "none", "", ""}, []span{{0x30FB, 0x30FB}}, nil},
+		{entry{1, "L", "Han", ""}, []span{{0x4E00, 0x9FFF}}, nil},
 	} {
 		for _, s := range r.spans {
 			for sign := s.first; sign <= s.last; sign++ {
@@ -205,4 +206,60 @@ func labelInWords(text string) (string, string, api.Errno) {
 		return "", "", api.ErrLong
 	}
 	return text, form, api.OK
+}
+
+// initials writes a letter for each side, so that a pattern can be held against
+// them.
+var initials = map[string]string{"L": "L", "R": "R", "AL": "A", "EN": "E", "AN": "N", "ES": "S", "NSM": "M", "none": "."}
+
+func sides(text string) string {
+	var b strings.Builder
+	for _, sign := range text {
+		b.WriteString(initials[documented[int(sign)].side])
+	}
+	return b.String()
+}
+
+var (
+	otherSided = regexp.MustCompile(`[RAN]`)
+	sidedL     = regexp.MustCompile(`^L[LESM.]*$`)
+	endsL      = regexp.MustCompile(`[LE]M*$`)
+	sidedR     = regexp.MustCompile(`^[RA][RANESM.]*$`)
+	endsR      = regexp.MustCompile(`[RAEN]M*$`)
+	bothEN     = regexp.MustCompile(`E.*N|N.*E`)
+)
+
+func sidedInWords(text string) bool {
+	s := sides(text)
+	if sidedL.MatchString(s) {
+		return endsL.MatchString(s)
+	}
+	return sidedR.MatchString(s) && endsR.MatchString(s) && !bothEN.MatchString(s)
+}
+
+func nameInWords(text string) (string, string, int, api.Errno) {
+	texts := strings.Split(text, ".")
+	end := ""
+	if last := len(texts) - 1; last > 0 && texts[last] == "" {
+		texts, end = texts[:last], "."
+	}
+	var labels, forms []string
+	for number, text := range texts {
+		label, form, errno := labelInWords(text)
+		if errno != api.OK {
+			return "", "", number, errno
+		}
+		labels, forms = append(labels, label), append(forms, form)
+	}
+	if otherSided.MatchString(sides(strings.Join(labels, ""))) {
+		for number, label := range labels {
+			if !sidedInWords(label) {
+				return "", "", number, api.ErrSide
+			}
+		}
+	}
+	if len(strings.Join(forms, ".")) > 253 {
+		return "", "", 0, api.ErrName
+	}
+	return strings.Join(labels, ".") + end, strings.Join(forms, ".") + end, 0, api.OK
 }
