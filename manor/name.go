@@ -52,7 +52,7 @@ func (n *name) fault() (int, api.Errno) {
 }
 
 func (n *name) asksForSides() bool {
-	return slices.ContainsFunc(n.labels, (*label).asksForSides)
+	return slices.ContainsFunc(n.labels, func(l *label) bool { return l.asksForSides() })
 }
 
 // firstNotSided is the number of a label, or -1 if all are sided.
